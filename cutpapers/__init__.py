@@ -1,0 +1,1 @@
+"""Cutpapers: what a written run of processes could have shown."""
