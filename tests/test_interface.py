@@ -14,6 +14,15 @@ FUNCTIONS = {
     "written": {
         "write_run": ["run"], "read_run": ["text"], "write_sentence": ["count", "sentence"], "read_sentence": ["count", "text"],
     },
+    "sentences": {
+        "holds": ["order", "cut", "sentence"], "kind": ["sentence"], "part": ["sentence", "process"],
+        "fulfils": ["order", "process", "events", "limbs"],
+    },
+    "joint": {
+        "some_joint": ["order", "sentence"], "every_joint": ["order", "sentence"],
+        "stretches": ["order", "process", "limbs"], "moves_to": ["order", "cut", "target"],
+    },
+    "sums": {"gains": ["order", "terms"], "some_sum": ["order", "sentence"]},
 }
 
 CLASSES = {
