@@ -24,7 +24,7 @@ def is_run(value):
         return False
     if not all([_is_process(row) for row in value]):
         return False
-    return _letters_once(value) and len(one_row(value)) == sum([len(row) for row in value])
+    return letters_once(value) and len(one_row(value)) == sum([len(row) for row in value])
 
 
 def is_sentence(count, value):
@@ -35,8 +35,8 @@ def is_sentence(count, value):
 def one_row(run):
     """Returns pairs (process, number of the event): a row that the run can have gone.
 
-    The run is one but for the condition that it is possible. If it is not,
-    the events that can't come are missing in the row.
+    The rows of the run may have takes of letters that are not sent, or not
+    before. The events that therefore can't come are missing in the row.
     """
     row = []
     sent = {}
@@ -54,6 +54,18 @@ def one_row(run):
                 reached[process] += 1
                 row.append((process, reached[process]))
     return row
+
+
+def letters_once(rows):
+    """Returns whether the events in the rows send no letter twice, and take none twice."""
+    seen = set()
+    many = 0
+    for row in rows:
+        for event in row:
+            if event[0] != "step":
+                seen.add(event[:2])
+                many += 1
+    return len(seen) == many
 
 
 def _is_row(value, least, greatest):
@@ -86,17 +98,6 @@ def _is_change(value):
 
 def _is_process(value):
     return _is_row(value, 0, MOST_EVENTS) and all([is_event(event) for event in value])
-
-
-def _letters_once(rows):
-    seen = set()
-    many = 0
-    for row in rows:
-        for event in row:
-            if event[0] != "step":
-                seen.add(event[:2])
-                many += 1
-    return len(seen) == many
 
 
 def _is_nested(count, value, depth):

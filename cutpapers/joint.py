@@ -21,7 +21,7 @@ def some_joint(order, sentence):
 
 def every_joint(order, sentence):
     """Returns a stretch of each process that no observation avoids, or an observation that avoids the sentence."""
-    found = {process: stretches(order, process, limbs) for process, limbs in _parts(order, sentence).items()}
+    found = {process: stretches(order, process, limbs) for process, limbs in parts(order, sentence).items()}
     cut = order.empty()
     moves = []
     heads = _heads(found, cut)
@@ -60,11 +60,7 @@ def moves_to(order, cut, target):
     return moves
 
 
-def _ups_to(order, cut, target):
-    return [process for process in order.ups(cut) if cut[process] < target[process]]
-
-
-def _parts(order, sentence):
+def parts(order, sentence):
     """Returns a dict from each process, in ascending order, to its part."""
     # A sentence may speak about processes that the run does not have. They
     # count as processes without events.
@@ -72,10 +68,14 @@ def _parts(order, sentence):
     return {process: part(sentence, process) for process in processes}
 
 
+def _ups_to(order, cut, target):
+    return [process for process in order.ups(cut) if cut[process] < target[process]]
+
+
 def _truths(order, sentence):
     """Returns a dict from each process to a list: after how many events its state fulfils its part."""
     truths = {}
-    for process, limbs in _parts(order, sentence).items():
+    for process, limbs in parts(order, sentence).items():
         truths[process] = [fulfils(order, process, events, limbs) for events in range(order.size(process) + 1)]
     return truths
 

@@ -24,6 +24,18 @@ CROSSING = (
     (("step", (("c", 9),)), ("take", 3, ()), ("send", 5, (("c", 0),)), ("send", 6, ()), ("take", 6, ())),
 )
 
+# All of them have a = 1 at once in each observation: each tells each other one
+# that it begins, and does not end before it was told by all the others.
+MEETING_OF_TWO = (
+    (("send", 1, (("a", 1),)), ("take", 2, (("a", 0),))),
+    (("send", 2, (("a", 1),)), ("take", 1, (("a", 0),))),
+)
+MEETING_OF_THREE = (
+    (("step", (("a", 1),)), ("send", 1, ()), ("send", 2, ()), ("take", 3, ()), ("take", 5, ()), ("step", (("a", 0),))),
+    (("step", (("a", 1),)), ("send", 3, ()), ("send", 4, ()), ("take", 1, ()), ("take", 6, ()), ("step", (("a", 0),))),
+    (("step", (("a", 1),)), ("send", 5, ()), ("send", 6, ()), ("take", 2, ()), ("take", 4, ()), ("step", (("a", 0),))),
+)
+
 
 class Hostile:
     """An object whose every comparison, test or question raises an error."""
@@ -105,6 +117,31 @@ def nested(depth, leaf=("way", 1)):
 def many_steps(processes, events):
     """Returns a run of so many processes that only step."""
     return tuple(tuple(("step", (("a", number),)) for number in range(1, events + 1)) for _ in range(processes))
+
+
+def step(**changes):
+    return ("step", tuple(changes.items()))
+
+
+def setting(variable, *values):
+    """Returns a row of steps that give the variable these values."""
+    return tuple(("step", ((variable, value),)) for value in values)
+
+
+def all_of(*limbs):
+    """Returns the sentence that has these limbs."""
+    sentence = limbs[0]
+    for limb in limbs[1:]:
+        sentence = ("and", sentence, limb)
+    return sentence
+
+
+def at_least(process, bound, variable="a"):
+    return ("at", process, variable, bound)
+
+
+def below(process, bound, variable="a"):
+    return ("not", ("at", process, variable, bound))
 
 
 def rows_of(kinds_of_events, length):

@@ -4,7 +4,7 @@ The slow answers follow the words of the document as directly as possible, and
 try all cuts and all observations.
 """
 
-from tests.samples import slow_cuts, slow_state, slow_under_way
+from tests.samples import CROSSING, MEETING_OF_TWO, RUN_109, many_steps, slow_cuts, slow_state, slow_under_way, small_runs
 
 
 class Numbers:
@@ -22,6 +22,15 @@ class Numbers:
 
     def one_of(self, values):
         return values[self.below(len(values))]
+
+    def some_of(self, values, most):
+        """Returns a list of at most so many of the values."""
+        return list(values) if len(values) <= most else [self.one_of(values) for _ in range(most)]
+
+    def shuffled(self, values):
+        """Returns a list of the values in another order."""
+        left = list(values)
+        return [left.pop(self.below(len(left))) for _ in values]
 
 
 def made_changes(numbers, greatest):
@@ -65,6 +74,11 @@ def large_runs():
     numbers = Numbers(12)
     sizes = [30] * 6
     return [made_run(numbers, sizes, letters, greatest) for letters in (10, 9, 6, 3, 0) for greatest in (1, 40, 1000)]
+
+
+def counted(run):
+    """Returns the run with the number of each event as the value of a."""
+    return tuple(tuple(event[:-1] + ((("a", number),),) for number, event in enumerate(row, start=1)) for row in run)
 
 
 def made_at(numbers, process):
@@ -122,6 +136,30 @@ def made_sentence(numbers, count, depth):
     return (word, pair[0], pair[1])
 
 
+def of_size(run, size):
+    """Returns a sentence that just the cuts of this size of a counted run fulfil."""
+    terms = tuple((1, process, "a") for process in range(len(run)))
+    return ("and", ("sum", terms, size), ("not", ("sum", terms, size + 1)))
+
+
+def made_questions(seed):
+    """Returns pairs of a run, small enough for trying all observations, and a sentence, of all kinds."""
+    numbers = Numbers(seed)
+    asked = []
+    for run in made_runs() + small_runs()[::6] + [CROSSING, RUN_109, MEETING_OF_TWO, many_steps(3, 2), ((),), ((),) * 6]:
+        count = len(run)
+        asked.append((run, made_joint(numbers, count, numbers.between(1, 4))))
+        asked.append((run, ("sum", made_terms(numbers, count), numbers.between(-4, 9))))
+        asked.append((run, made_sentence(numbers, count, numbers.between(1, 4))))
+        # Each observation passes a cut of each size, and few of them more than
+        # one that fulfils the other sentence, too.
+        size = numbers.between(0, sum(len(row) for row in run))
+        other = made_sentence(numbers, count, numbers.between(1, 3))
+        asked.append((counted(run), (numbers.one_of(["and", "or"]), of_size(run, size), other)))
+    asked.append((MEETING_OF_TWO, ("and", ("at", 0, "a", 1), ("at", 1, "a", 1))))
+    return asked
+
+
 def slow_value(run, cut, process, variable):
     """Returns the value of the variable of the process at the cut."""
     return slow_state(run, process, cut[process])["abcd".index(variable)]
@@ -158,14 +196,25 @@ def next_cuts(cut, cuts):
     return [after for after in cuts if sum(after) == sum(cut) + 1 and all(x <= y for x, y in zip(cut, after))]
 
 
+def avoiding_cuts(run, sentence):
+    """Returns the list of the avoiding cuts, in the order of the document, by trying all observations."""
+    cuts = [cut for cut in slow_cuts(run) if not slow_holds(run, cut, sentence)]
+    reached = [cut for cut in cuts if sum(cut) == 0]
+    found = []
+    while reached:
+        found.extend(reached)
+        reached = sorted({after for cut in reached for after in next_cuts(cut, cuts)})
+    return found
+
+
 def is_avoidable(run, sentence):
     """Returns whether an observation passes no cut that fulfils the sentence, by trying all observations."""
-    cuts = slow_cuts(run)
-    avoiding = [cut for cut in cuts if not slow_holds(run, cut, sentence)]
-    reached = [cut for cut in avoiding if sum(cut) == 0]
-    while reached and sum(reached[0]) < sum(cuts[-1]):
-        reached = sorted({after for cut in reached for after in next_cuts(cut, avoiding)})
-    return bool(reached)
+    return tuple(len(row) for row in run) in avoiding_cuts(run, sentence)
+
+
+def slow_answer(run, question, sentence):
+    """Returns the answer to the question, by trying all cuts and all observations."""
+    return bool(fulfilling(run, sentence)) if question == "some" else not is_avoidable(run, sentence)
 
 
 def cuts_on_the_way(run, moves):

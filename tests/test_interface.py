@@ -23,6 +23,9 @@ FUNCTIONS = {
         "stretches": ["order", "process", "limbs"], "moves_to": ["order", "cut", "target"],
     },
     "sums": {"gains": ["order", "terms"], "some_sum": ["order", "sentence"]},
+    "free": {"some_free": ["order", "sentence", "most"], "every_free": ["order", "sentence", "most"]},
+    "tell": {"tell": ["order", "question", "sentence", "most"]},
+    "judge": {"takes": ["order", "question", "sentence", "answer", "paper"]},
 }
 
 CLASSES = {
@@ -31,6 +34,9 @@ CLASSES = {
         "__init__": ["run"], "count": [], "size": ["process"], "clock": ["process", "event"],
         "before": ["process", "event", "other", "later"], "empty": [], "whole": [], "is_cut": ["value"], "ups": ["cut"],
         "added": ["cut", "process"], "state": ["process", "events"], "under_way": ["cut"], "cuts": ["most"],
+    }},
+    "watcher": {"Watcher": {
+        "__init__": ["count"], "feed": ["process", "index", "event"], "known": [], "waiting": [], "some": ["sentence", "most"],
     }},
 }
 

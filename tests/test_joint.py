@@ -7,82 +7,11 @@ from itertools import product
 from cutpapers.joint import every_joint, moves_to, some_joint, stretches
 from cutpapers.order import Order
 from cutpapers.sentences import holds, part
-from tests.samples import CROSSING, EMPTY_STEP, RUN_109, kinds, many_steps, nested, places, slow_before, slow_cuts, slow_is_cut
-from tests.samples import small_runs
-from tests.searches import Numbers, cuts_on_the_way, fulfilling, is_avoidable, large_runs, made_joint, made_run, made_runs
-from tests.searches import slow_holds
-
-
-def setting(variable, *values):
-    """Returns a row of steps that give the variable these values."""
-    return tuple(("step", ((variable, value),)) for value in values)
-
-
-def all_of(*limbs):
-    """Returns the sentence that has these limbs."""
-    sentence = limbs[0]
-    for limb in limbs[1:]:
-        sentence = ("and", sentence, limb)
-    return sentence
-
-
-def at_least(process, bound, variable="a"):
-    return ("at", process, variable, bound)
-
-
-def below(process, bound, variable="a"):
-    return ("not", ("at", process, variable, bound))
-
-
-# All of them have a = 1 at once in each observation: each tells each other one
-# that it begins, and does not end before it was told by all the others.
-MEETING_OF_TWO = (
-    (("send", 1, (("a", 1),)), ("take", 2, (("a", 0),))),
-    (("send", 2, (("a", 1),)), ("take", 1, (("a", 0),))),
-)
-MEETING_OF_THREE = (
-    (("step", (("a", 1),)), ("send", 1, ()), ("send", 2, ()), ("take", 3, ()), ("take", 5, ()), ("step", (("a", 0),))),
-    (("step", (("a", 1),)), ("send", 3, ()), ("send", 4, ()), ("take", 1, ()), ("take", 6, ()), ("step", (("a", 0),))),
-    (("step", (("a", 1),)), ("send", 5, ()), ("send", 6, ()), ("take", 2, ()), ("take", 4, ()), ("step", (("a", 0),))),
-)
-
-
-def limbs_of(sentence):
-    if sentence[0] == "and":
-        return limbs_of(sentence[1]) + limbs_of(sentence[2])
-    return [sentence]
-
-
-def speaker(limb):
-    return limb[1] if limb[0] == "at" else speaker(limb[1])
-
-
-def slow_fulfils(run, process, events, sentence):
-    """Returns whether the state of the process after so many events fulfils its part of the sentence."""
-    cut = tuple(events if place == process else 0 for place in range(len(run)))
-    return all(slow_holds(run, cut, limb) for limb in limbs_of(sentence) if speaker(limb) == process)
-
-
-def slow_clocks(run):
-    """Returns a dict from the places of the events, the event 0 of each process included, to the clocks."""
-    before = slow_before(run)
-    clocks = {(process, 0): (0,) * len(run) for process in range(len(run))}
-    for place in places(run):
-        known = [one for one in places(run) if one == place or (one, place) in before]
-        clocks[place] = tuple(len([one for one in known if one[0] == process]) for process in range(len(run)))
-    return clocks
-
-
-def rows_that_apply(run, clocks, sentence, low):
-    """Returns the list of the rows that apply to the lower bound, by point 400, in the order of point 401."""
-    rows = []
-    for process, number in enumerate(low):
-        if number <= len(run[process]) and not slow_fulfils(run, process, number, sentence):
-            rows.append(("false", process))
-    for process, other in product(range(len(run)), repeat=2):
-        if low[other] <= len(run[other]) and clocks[(other, low[other])][process] > low[process]:
-            rows.append(("needs", process, other))
-    return rows
+from tests.papers import no_observation_avoids, rows_that_apply, slow_clocks, slow_fulfils
+from tests.samples import CROSSING, EMPTY_STEP, MEETING_OF_THREE, MEETING_OF_TWO, RUN_109, all_of, at_least, below, kinds
+from tests.samples import many_steps, nested, setting, slow_before, slow_cuts, slow_is_cut, small_runs
+from tests.searches import Numbers, counted, cuts_on_the_way, fulfilling, is_avoidable, large_runs, made_joint, made_run
+from tests.searches import made_runs, slow_holds
 
 
 def slow_some(run, sentence):
@@ -111,16 +40,6 @@ def slow_stretches(run, process, sentence):
             if inside and not any(slow_fulfils(run, process, events, sentence) for events in beside):
                 found.append((first, last))
     return found
-
-
-def no_observation_avoids(run, before, rows):
-    """Returns whether the stretches are such as point 403 wants them."""
-    for process, (first, _) in enumerate(rows):
-        for other, (_, last) in enumerate(rows):
-            if process != other and first > 0 and last < len(run[other]):
-                if ((process, first), (other, last + 1)) not in before:
-                    return False
-    return True
 
 
 def slow_moves(run, cut, target):
@@ -155,11 +74,6 @@ def met_runs():
         run = made_run(numbers, [16 // count] * count, 10, 1)
         asked.append((run, all_of(*[at_least(process, numbers.below(2)) for process in range(count)])))
     return asked
-
-
-def counted(run):
-    """Returns the run with the number of each event as the value of a."""
-    return tuple(tuple(event[:-1] + ((("a", number),),) for number, event in enumerate(row, start=1)) for row in run)
 
 
 def counted_runs():

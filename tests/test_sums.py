@@ -5,28 +5,10 @@ import unittest
 
 from cutpapers.order import Order
 from cutpapers.sums import gains, some_sum
-from tests.samples import CROSSING, EMPTY_STEP, RUN_109, kinds, many_steps, places, slow_before, slow_cuts, slow_is_cut
-from tests.samples import small_runs
+from tests.papers import slow_gains
+from tests.samples import CROSSING, EMPTY_STEP, RUN_109, kinds, many_steps, slow_before, slow_cuts, slow_is_cut, small_runs
+from tests.samples import step
 from tests.searches import Numbers, large_runs, made_run, made_runs, made_terms, next_cuts, slow_sum
-
-
-def step(**changes):
-    return ("step", tuple(changes.items()))
-
-
-def slow_gain(run, place, terms):
-    """Returns the gain of the event, by a cut without it and the one with it."""
-    cuts = slow_cuts(run)
-    process, number = place
-    for cut in cuts:
-        after = cut[:process] + (cut[process] + 1,) + cut[process + 1:]
-        if after[process] == number and after in cuts:
-            return slow_sum(run, after, terms) - slow_sum(run, cut, terms)
-
-
-def slow_gains(run, terms):
-    found = [(process, event, slow_gain(run, (process, event), terms)) for process, event in places(run)]
-    return sorted(row for row in found if row[2] != 0)
 
 
 def questions():
